@@ -33,6 +33,10 @@ def holds_leaf(knot):
     return knot is not None and is_leaf(knot)
 
 
+def places_there(knots):
+    return [place for place, knot in enumerate(knots) if knot is not None]
+
+
 def parts_of(knot):
     if knot is None or is_leaf(knot):
         return []

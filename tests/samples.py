@@ -1,4 +1,4 @@
-"""Words and webs that several test files use."""
+"""Words, webs and trees that several test files use."""
 
 import copy
 
@@ -87,6 +87,165 @@ def two_cuts():
 
 def sound_webs():
     return [wire(), two_wires(), cut_leaves(), cut_pairs(), two_cuts()]
+
+
+def ring_web():
+    """A both knot round a link: its edges make a ring."""
+    return ([A, NOT_A, ("both", 0, 1)], [(0, 1)], [])
+
+
+def bad_right_web():
+    """An either knot that is at fault where its right part is kept."""
+    return ([A, NOT_A, B, NOT_B, ("either", 0, 2), ("both", 4, 3)], [(0, 1), (2, 3)], [])
+
+
+def bad_at(choices):
+    """A web of so many either knots of which just that switching is at fault.
+
+    Each either knot leads on to the next one by the part that is told, and to a
+    cluster by the other: a ring goes through all of them or through none.
+    """
+    count = len(choices)
+    knots = []
+    for _ in range(count):
+        knots += [A, NOT_A, B, NOT_B]
+    links = []
+    for number, choice in enumerate(choices):
+        own = 4 * number
+        after = 4 * ((number + 1) % count)
+        links += [(own, own + 1), tuple(sorted([own + 2, after + 3]))]
+        parts = (own, own + 2) if choice == 1 else (own + 2, own)
+        knots.append(("either",) + parts)
+        knots.append(("both", len(knots) - 1, own + 3))
+    cluster = 1
+    for number in range(1, count):
+        knots.append(("both", cluster, 4 * number + 1))
+        cluster = len(knots) - 1
+    return (knots, sorted(links), [])
+
+
+class Growing:
+    """Knots that grow with the rules that tell them."""
+
+    def __init__(self):
+        self.knots = []
+
+    def put(self, knot):
+        self.knots.append(knot)
+        return len(self.knots) - 1
+
+    def link(self, name="a", first="plain"):
+        other = "turned" if first == "plain" else "plain"
+        p = self.put((first, name))
+        return ("link", p, self.put((other, name)))
+
+    def either(self, i, j, arm):
+        return ("either", self.put(("either", i, j)), arm)
+
+    def both(self, i, j, left, right):
+        return ("both", self.put(("both", i, j)), left, right)
+
+    def mirror(self, word):
+        """A rule whose two ends are a word and its turned side, and these two places."""
+        if word[0] in ("plain", "turned"):
+            rule = self.link(word[1], word[0])
+            return (rule, rule[1], rule[2])
+        left, left_place, left_side = self.mirror(word[1])
+        right, right_place, right_side = self.mirror(word[2])
+        if word[0] == "both":
+            inner = self.both(left_place, right_place, left, right)
+            outer = self.either(left_side, right_side, inner)
+            return (outer, inner[1], outer[1])
+        inner = self.both(left_side, right_side, left, right)
+        outer = self.either(left_place, right_place, inner)
+        return (outer, outer[1], inner[1])
+
+    def tree(self, rule):
+        return (self.knots, rule)
+
+
+def mirror_tree(word):
+    grown = Growing()
+    return grown.tree(grown.mirror(word)[0])
+
+
+def cut_mirrors(word):
+    """Two mirrors of a word, the turned side of the one in a cut with the word of the other."""
+    grown = Growing()
+    first, _, side = grown.mirror(word)
+    second, place, _ = grown.mirror(word)
+    return grown.tree(("cut", side, place, first, second))
+
+
+def chain_of_cuts(count):
+    """So many rules within one another: links, each in a cut with all behind it."""
+    grown = Growing()
+    rule = grown.link()
+    place = rule[1]
+    for _ in range(count - 1):
+        link = grown.link()
+        rule = ("cut", link[2], place, link, rule)
+        place = link[1]
+    return grown.tree(rule)
+
+
+def shifted(tree, by=1, every=2):
+    """The same tree with gone places strewn in."""
+    knots = [None] * by
+    new = {}
+    for place, knot in enumerate(tree[0]):
+        if place % every == 0:
+            knots.append(None)
+        new[place] = len(knots)
+        if knot is not None and knot[0] in ("both", "either"):
+            knot = (knot[0], new[knot[1]], new[knot[2]])
+        knots.append(knot)
+    return (knots + [None], renumbered(tree[1], new))
+
+
+def renumbered(rule, new):
+    return tuple(
+        new[part] if isinstance(part, int) else renumbered(part, new) if isinstance(part, tuple) else part
+        for part in rule
+    )
+
+
+def mixed_tree():
+    """All four rules, a gone place, knots whose left part lies above the right one."""
+    grown = Growing()
+    grown.put(None)
+    first = grown.link("a")
+    second = grown.link("b", "turned")
+    inner = grown.both(second[1], first[1], second, first)
+    outer = grown.either(second[2], first[2], inner)
+    third, place, _ = grown.mirror(("both", NOT_B, A))
+    grown.put(None)
+    return grown.tree(("cut", outer[1], place, outer, third))
+
+
+def sound_trees():
+    plain = ([A, NOT_A], ("link", 0, 1))
+    turned_first = ([NOT_A, A], ("link", 0, 1))
+    closed = ([A, NOT_A, ("either", 1, 0)], ("either", 2, ("link", 0, 1)))
+    beside = ([A, NOT_A, B, NOT_B, ("both", 0, 3)], ("both", 4, ("link", 0, 1), ("link", 2, 3)))
+    crossed = ([A, NOT_A, B, NOT_B, ("both", 3, 0)], ("both", 4, ("link", 2, 3), ("link", 0, 1)))
+    trees = [plain, turned_first, closed, beside, crossed, mixed_tree(), chain_of_cuts(2), chain_of_cuts(5)]
+    for word in words_to_depth(2):
+        trees.append(mirror_tree(word))
+    for word in (A, ("both", A, NOT_B), ("either", A, A), ("either", ("both", A, B), C)):
+        trees.append(cut_mirrors(word))
+    return trees + [shifted(tree) for tree in trees[:10]] + [shifted(trees[-1], 0, 3)]
+
+
+def loosened(text):
+    """The same text in other guises: more blanks, lines of blanks, no last line feed."""
+    return [
+        text[:-1],
+        text.replace(" ", "   "),
+        text.replace("\n", "  \n  "),
+        text.replace("\n", "\n\n   \n"),
+        "\n \n" + text.replace(" ", "  ").replace("\n", " \n\n") + "   ",
+    ]
 
 
 def unchanged(case, call, *handed):
