@@ -1,6 +1,10 @@
 """Words, webs and trees that several test files use."""
 
 import copy
+import itertools
+
+from oncewise.trees import web_of
+from oncewise.webs import eithers_of
 
 A = ("plain", "a")
 B = ("plain", "b")
@@ -235,6 +239,252 @@ def sound_trees():
     for word in (A, ("both", A, NOT_B), ("either", A, A), ("either", ("both", A, B), C)):
         trees.append(cut_mirrors(word))
     return trees + [shifted(tree) for tree in trees[:10]] + [shifted(trees[-1], 0, 3)]
+
+
+def closed_wire():
+    """One link whose two leaves are in a cut too."""
+    return ([A, NOT_A], [(0, 1)], [(0, 1)])
+
+
+def one_either():
+    return ([A, NOT_A, ("either", 0, 1)], [(0, 1)], [])
+
+
+def apart():
+    """An either knot of two leaves that hang together with nothing but their links."""
+    return ([A, B, ("either", 0, 1), NOT_A, NOT_B], [(0, 3), (1, 4)], [])
+
+
+def ring_and_parts():
+    """A ring that is not in the lowest place's piece."""
+    return ([C, NOT_C, A, NOT_A, ("both", 2, 3)], [(0, 1), (2, 3)], [])
+
+
+def cut_ring():
+    """Two links and two cuts that make one ring of all places."""
+    return ([A, NOT_A, A, NOT_A], [(0, 1), (2, 3)], [(0, 3), (1, 2)])
+
+
+def waiting_web():
+    """A right web whose lower either knot can be folded only behind the higher one."""
+    knots = [A, NOT_A, A, NOT_A, B, NOT_B, ("either", 0, 4), ("both", 1, 2), ("either", 3, 7), ("both", 8, 5)]
+    return (knots, [(0, 1), (2, 3), (4, 5)], [])
+
+
+def beside(first, second):
+    """Two webs side by side, the second one's places above the first one's."""
+    by = len(first[0])
+    knots = list(first[0])
+    for knot in second[0]:
+        is_pair = knot is not None and knot[0] in ("both", "either")
+        knots.append((knot[0], knot[1] + by, knot[2] + by) if is_pair else knot)
+    links = first[1] + [(p + by, q + by) for p, q in second[1]]
+    return (knots, links, first[2] + [(p + by, q + by) for p, q in second[2]])
+
+
+def shifted_web(web, by=1, every=2):
+    """The same web with gone places strewn in."""
+    rule = ("pairs",) + tuple(("link", p, q) for p, q in web[1]) + tuple(("cut", p, q) for p, q in web[2])
+    knots, rule = shifted((web[0], rule), by, every)
+    pairs = {kind: [part[1:] for part in rule[1:] if part[0] == kind] for kind in ("link", "cut")}
+    return (knots, pairs["link"], pairs["cut"])
+
+
+def all_small_webs():
+    """Every web without cuts on some rows of knots."""
+    rows = [
+        [A, NOT_A, ("either", 0, 1)],
+        [A, A, NOT_A, NOT_A, ("either", 0, 2), ("both", 4, 1)],
+        [A, A, NOT_A, NOT_A, ("both", 0, 1), ("either", 2, 3)],
+        [A, A, NOT_A, NOT_A, ("either", 0, 1), ("either", 2, 3), ("both", 4, 5)],
+        [A, A, A, NOT_A, NOT_A, NOT_A, ("both", 0, 3), ("either", 1, 4), ("either", 6, 7), ("both", 8, 2)],
+        [A, A, None, A, NOT_A, NOT_A, NOT_A, ("either", 0, 4), ("both", 1, 7), ("either", 8, 3), ("either", 5, 6)],
+        [A, A, A, NOT_A, NOT_A, NOT_A, ("both", 1, 0), ("both", 6, 2), ("either", 3, 4), ("either", 8, 5)],
+    ]
+    webs = []
+    for knots in rows:
+        plain = [place for place, knot in enumerate(knots) if knot == A]
+        turned = [place for place, knot in enumerate(knots) if knot == NOT_A]
+        for order in itertools.permutations(turned):
+            webs.append((knots, sorted(tuple(sorted(pair)) for pair in zip(plain, order)), []))
+    return webs
+
+
+def many_webs():
+    webs = sound_webs() + [ring_web(), bad_right_web(), closed_wire(), apart(), ring_and_parts(), one_either()]
+    webs += [bad_at([0, 1, 1]), bad_at([1, 0])]
+    webs += [shifted_web(web) for web in webs]
+    return webs + [web_of(tree) for tree in sound_trees()] + all_small_webs()
+
+
+def all_choices(web):
+    return [list(choices) for choices in itertools.product((0, 1), repeat=len(eithers_of(web)))]
+
+
+def plain_edges(web, choices):
+    """Point 42, word for word."""
+    knots, links, cuts = web
+    left = list(choices)
+    edges = list(links) + list(cuts)
+    for place, knot in enumerate(knots):
+        if knot and knot[0] == "both":
+            edges += [(place, knot[1]), (place, knot[2])]
+        if knot and knot[0] == "either":
+            edges.append((place, knot[1] if left.pop(0) == 0 else knot[2]))
+    return edges
+
+
+def piece_of(edges, start):
+    piece = {start}
+    grown = True
+    while grown:
+        more = {place for edge in edges if set(edge) & piece for place in edge} - piece
+        piece |= more
+        grown = bool(more)
+    return piece
+
+
+class Dice:
+    """Numbers that look thrown, the same ones each time and under each Python."""
+
+    def __init__(self, seed):
+        self.state = seed
+
+    def below(self, count):
+        self.state = (self.state * 6364136223846793005 + 1442695040888963407) % 2 ** 64
+        return (self.state >> 33) % count
+
+    def one_of(self, things):
+        return things[self.below(len(things))]
+
+    def taken_from(self, things):
+        return things.pop(self.below(len(things)))
+
+    def shuffled(self, things):
+        left = list(things)
+        return [self.taken_from(left) for _ in things]
+
+
+class Throwing(Growing):
+    """A tree of all four rules that grows by dice, with at most so many places."""
+
+    def __init__(self, seed, most, names="ab"):
+        Growing.__init__(self)
+        self.dice = Dice(seed)
+        self.most = most
+        self.names = names
+        self.grown = []
+
+    def has_room(self, cost):
+        return len(self.knots) + cost + len(self.grown) <= self.most
+
+    def add_link(self):
+        rule = self.link(self.dice.one_of(self.names), self.dice.one_of(("plain", "turned")))
+        self.grown.append((rule, [rule[1], rule[2]]))
+
+    def add_either(self):
+        rule, ends = self.dice.taken_from(self.grown)
+        if len(ends) > 1:
+            rule = self.either(self.dice.taken_from(ends), self.dice.taken_from(ends), rule)
+            ends.append(rule[1])
+        self.grown.append((rule, ends))
+
+    def add_both(self):
+        if len(self.grown) > 1:
+            left, ends = self.dice.taken_from(self.grown)
+            right, more = self.dice.taken_from(self.grown)
+            rule = self.both(self.dice.taken_from(ends), self.dice.taken_from(more), left, right)
+            self.grown.append((rule, ends + more + [rule[1]]))
+
+    def add_cut(self):
+        rule, ends = self.dice.taken_from(self.grown)
+        place = self.dice.taken_from(ends)
+        word = self.word(place, True)
+        if not self.has_room(2 + 4 * self.leaves(word)):
+            self.grown.append((rule, ends + [place]))
+            return
+        other, side, more = self.shown(word)
+        if self.dice.below(2) == 0:
+            rule = ("cut", place, side, rule, other)
+        else:
+            rule = ("cut", side, place, other, rule)
+        self.grown.append((rule, ends + more))
+
+    def word(self, place, is_turned):
+        knot = self.knots[place]
+        kinds = {"plain": "turned", "turned": "plain", "both": "either", "either": "both"}
+        kind = kinds[knot[0]] if is_turned else knot[0]
+        if knot[0] in ("plain", "turned"):
+            return (kind, knot[1])
+        return (kind, self.word(knot[1], is_turned), self.word(knot[2], is_turned))
+
+    def leaves(self, word):
+        return 1 if word[0] in ("plain", "turned") else self.leaves(word[1]) + self.leaves(word[2])
+
+    def shown(self, word):
+        """A rule of which the word is an end, the word's place, and the places of the other ends."""
+        if word[0] in ("plain", "turned"):
+            rule = self.link(word[1], word[0])
+            return (rule, rule[1], [rule[2]])
+        left, i, ends = self.shown(word[1])
+        right, j, more = self.shown(word[2])
+        if word[0] == "both":
+            rule = self.both(i, j, left, right)
+            return (rule, rule[1], ends + more)
+        inner = self.both(self.dice.taken_from(ends), self.dice.taken_from(more), left, right)
+        rule = self.either(i, j, inner)
+        return (rule, rule[1], ends + more + [inner[1]])
+
+    def thrown(self):
+        steps = [self.add_link, self.add_either, self.add_both, self.add_cut, lambda: self.put(None)]
+        self.add_link()
+        while self.has_room(3):
+            self.dice.one_of(steps[:4] * 3 + steps)()
+        while len(self.grown) > 1:
+            self.add_both()
+        return self.tree(self.grown[0][0])
+
+
+def thrown_tree(seed, most, names="ab"):
+    return Throwing(seed, most, names).thrown()
+
+
+def thrown_trees(seeds, sizes):
+    return [thrown_tree(seed, most, "a" if seed % 2 else "abc") for seed in seeds for most in sizes]
+
+
+def relinked(web, seed):
+    """The same knots and cuts, with the links of each NAME put otherwise."""
+    dice = Dice(seed)
+    knots, links, cuts = web
+    names = sorted({knots[p][1] for p, _ in links})
+    new = []
+    for name in names:
+        plain = [place for place, knot in enumerate(knots) if knot == ("plain", name)]
+        turned = [place for place, knot in enumerate(knots) if knot == ("turned", name)]
+        new += [tuple(sorted(pair)) for pair in zip(plain, dice.shuffled(turned))]
+    return (knots, sorted(new), cuts)
+
+
+def two_swapped(web, seed):
+    """The same web, but for two links that have changed one place with one another."""
+    dice = Dice(seed)
+    knots, links, cuts = web
+    mates = {p: q for pair in links for p, q in (pair, pair[::-1])}
+    plain = [place for place in mates if knots[place][0] == "plain"]
+    first = dice.one_of(plain)
+    second = dice.one_of([place for place in plain if knots[place] == knots[first]])
+    mates[first], mates[second] = mates[second], mates[first]
+    return (knots, sorted(tuple(sorted([p, mates[p]])) for p in plain), cuts)
+
+
+def thrown_webs(seeds, sizes):
+    """Webs of trees, and webs of the same knots and cuts with other links."""
+    webs = []
+    for number, tree in enumerate(thrown_trees(seeds, sizes)):
+        web = web_of(tree)
+        webs += [web, two_swapped(web, number), relinked(web, number)]
+    return webs
 
 
 def loosened(text):

@@ -8,94 +8,13 @@ from oncewise.switching import choices_at, edges_by, fault_by, first_bad_tried
 from oncewise.trees import web_of
 from oncewise.webs import checked_web, eithers_of
 from samples import (
-    A, B, C, NOT_A, NOT_B, NOT_C, bad_at, bad_right_web, chain_of_cuts, cut_leaves, cut_mirrors, cut_pairs,
-    deep_left, mirror_tree, refused, ring_web, shifted, sound_trees, sound_webs, two_cuts, two_wires, unchanged,
-    wide, wire,
+    A, B, C, NOT_A, NOT_B, NOT_C, all_choices, apart, bad_at, bad_right_web, chain_of_cuts, closed_wire,
+    cut_leaves, cut_mirrors, cut_pairs, deep_left, many_webs, mirror_tree, one_either, piece_of, plain_edges,
+    refused, ring_and_parts, ring_web, shifted_web, sound_trees, two_cuts, two_wires, unchanged, wide, wire,
 )
 
 FAR = 10 ** 30
 VERY_FAR = 10 ** 5000
-
-
-def closed_wire():
-    """One link whose two leaves are in a cut too."""
-    return ([A, NOT_A], [(0, 1)], [(0, 1)])
-
-
-def one_either():
-    return ([A, NOT_A, ("either", 0, 1)], [(0, 1)], [])
-
-
-def apart():
-    """An either knot of two leaves that hang together with nothing but their links."""
-    return ([A, B, ("either", 0, 1), NOT_A, NOT_B], [(0, 3), (1, 4)], [])
-
-
-def ring_and_parts():
-    """A ring that is not in the lowest place's piece."""
-    return ([C, NOT_C, A, NOT_A, ("both", 2, 3)], [(0, 1), (2, 3)], [])
-
-
-def shifted_web(web, by=1, every=2):
-    """The same web with gone places strewn in."""
-    rule = ("pairs",) + tuple(("link", p, q) for p, q in web[1]) + tuple(("cut", p, q) for p, q in web[2])
-    knots, rule = shifted((web[0], rule), by, every)
-    pairs = {kind: [part[1:] for part in rule[1:] if part[0] == kind] for kind in ("link", "cut")}
-    return (knots, pairs["link"], pairs["cut"])
-
-
-def all_small_webs():
-    """Every web without cuts on some rows of knots."""
-    rows = [
-        [A, NOT_A, ("either", 0, 1)],
-        [A, A, NOT_A, NOT_A, ("either", 0, 2), ("both", 4, 1)],
-        [A, A, NOT_A, NOT_A, ("both", 0, 1), ("either", 2, 3)],
-        [A, A, NOT_A, NOT_A, ("either", 0, 1), ("either", 2, 3), ("both", 4, 5)],
-        [A, A, A, NOT_A, NOT_A, NOT_A, ("both", 0, 3), ("either", 1, 4), ("either", 6, 7), ("both", 8, 2)],
-        [A, A, None, A, NOT_A, NOT_A, NOT_A, ("either", 0, 4), ("both", 1, 7), ("either", 8, 3), ("either", 5, 6)],
-        [A, A, A, NOT_A, NOT_A, NOT_A, ("both", 1, 0), ("both", 6, 2), ("either", 3, 4), ("either", 8, 5)],
-    ]
-    webs = []
-    for knots in rows:
-        plain = [place for place, knot in enumerate(knots) if knot == A]
-        turned = [place for place, knot in enumerate(knots) if knot == NOT_A]
-        for order in itertools.permutations(turned):
-            webs.append((knots, sorted(tuple(sorted(pair)) for pair in zip(plain, order)), []))
-    return webs
-
-
-def many_webs():
-    webs = sound_webs() + [ring_web(), bad_right_web(), closed_wire(), apart(), ring_and_parts(), one_either()]
-    webs += [bad_at([0, 1, 1]), bad_at([1, 0])]
-    webs += [shifted_web(web) for web in webs]
-    return webs + [web_of(tree) for tree in sound_trees()] + all_small_webs()
-
-
-def all_choices(web):
-    return [list(choices) for choices in itertools.product((0, 1), repeat=len(eithers_of(web)))]
-
-
-def plain_edges(web, choices):
-    """Point 42, word for word."""
-    knots, links, cuts = web
-    left = list(choices)
-    edges = list(links) + list(cuts)
-    for place, knot in enumerate(knots):
-        if knot and knot[0] == "both":
-            edges += [(place, knot[1]), (place, knot[2])]
-        if knot and knot[0] == "either":
-            edges.append((place, knot[1] if left.pop(0) == 0 else knot[2]))
-    return edges
-
-
-def piece_of(edges, start):
-    piece = {start}
-    grown = True
-    while grown:
-        more = {place for edge in edges if set(edge) & piece for place in edge} - piece
-        piece |= more
-        grown = bool(more)
-    return piece
 
 
 def has_ring(edges):
