@@ -227,6 +227,43 @@ def mixed_tree():
     return grown.tree(("cut", outer[1], place, outer, third))
 
 
+def tower(count, order):
+    """Either rules round one another, in that order from the inside, round a row of both rules."""
+    grown = Growing()
+    rule = grown.link()
+    ends = [rule[1]]
+    last = rule[2]
+    for _ in range(2 * count - 2):
+        link = grown.link()
+        rule = grown.both(last, link[1], rule, link)
+        ends.append(rule[1])
+        last = link[2]
+    ends.append(last)
+    places = [grown.put(("either", ends[2 * number], ends[2 * number + 1])) for number in range(count)]
+    for number in order:
+        rule = ("either", places[number], rule)
+    return grown.tree(rule)
+
+
+def plain_arms(rule):
+    return [part for part in rule if isinstance(part, tuple)]
+
+
+def rule_at(tree, way):
+    rule = tree[1]
+    for number in way:
+        rule = plain_arms(rule)[number]
+    return rule
+
+
+def all_ways(tree):
+    """The ways of all rules, in no order that is promised."""
+    ways = [[]]
+    for way in ways:
+        ways += [way + [number] for number in range(len(plain_arms(rule_at(tree, way))))]
+    return ways
+
+
 def sound_trees():
     plain = ([A, NOT_A], ("link", 0, 1))
     turned_first = ([NOT_A, A], ("link", 0, 1))
@@ -498,11 +535,26 @@ def loosened(text):
     ]
 
 
+def lists_in(value):
+    """All lists in a value, each as often as it stands there."""
+    found = [value] if isinstance(value, list) else []
+    if isinstance(value, (list, tuple)):
+        for part in value:
+            found += lists_in(part)
+    return found
+
+
 def unchanged(case, call, *handed):
-    """The answer of a call, which must leave what it was handed as it was."""
+    """The answer of a call, which must leave what it was handed as it was.
+
+    Each list in the answer must be a new one, and no two of them one.
+    """
     before = copy.deepcopy(handed)
     answer = call(*handed)
     case.assertEqual(handed, before)
+    told = [id(found) for found in lists_in(answer)]
+    case.assertEqual(len(set(told)), len(told), "two told lists are one")
+    case.assertEqual(set(told) & {id(found) for found in lists_in(handed)}, set(), "a list that was handed in is told")
     return answer
 
 

@@ -27,6 +27,9 @@ METHODS = """
     items join keys ljust lower lstrip partition pop remove replace reverse rfind rjust rpartition rsplit rstrip
     setdefault split splitlines startswith strip update upper values zfill bit_length
 """.split()
+WALKED_AT_ONCE = ("zip", "enumerate", "reversed", "range", ".items", ".keys", ".values")
+WALKERS = ("list", "tuple", "dict", "sorted", "sum", "any", "all", "enumerate", "zip", ".join")
+CHANGES = (".append", ".clear", ".extend", ".insert", ".pop", ".remove", ".reverse", ".setdefault", ".update")
 OWN_DUNDERS = ("__init__", "__eq__", "__repr__", "__str__", "__len__")
 UNUSED_NAMES = ("register", "mro", "elements", "open", "input", "version_info", "with_traceback", "add_note")
 BANNED_WORDS = re.compile(
@@ -176,6 +179,49 @@ class Defs(unittest.TestCase):
                 if isinstance(node, ast.FormattedValue):
                     self.assertIsInstance(node.value, ast.Name, name)
                     self.assertIsNone(node.format_spec, name)
+
+
+def with_parents(tree):
+    """Each node, and the one that it stands in."""
+    return [(child, node) for node in ast.walk(tree) for child in ast.iter_child_nodes(node)]
+
+
+def called(node):
+    """The name of a function or a method that is called; else an empty text."""
+    if not isinstance(node, ast.Call):
+        return ""
+    return node.func.id if isinstance(node.func, ast.Name) else "." + node.func.attr
+
+
+class Walks(unittest.TestCase):
+    def is_walked(self, node, parent):
+        if isinstance(parent, (ast.For, ast.comprehension)):
+            return parent.iter is node
+        name = called(parent)
+        if name in ("min", "max"):
+            return len(parent.args) == 1
+        return name in WALKERS and parent.args[0] is node
+
+    def test_what_is_walked_at_once(self):
+        for name, tree in trees().items():
+            for node, parent in with_parents(tree):
+                if called(node) in WALKED_AT_ONCE:
+                    self.assertTrue(self.is_walked(node, parent), f"{name}:{node.lineno}")
+
+    def test_sets_are_not_kept(self):
+        for name, tree in trees().items():
+            for node, parent in with_parents(tree):
+                if called(node) in ("set", "frozenset") or isinstance(node, ast.Set):
+                    fits = isinstance(parent, (ast.Compare, ast.BinOp)) or called(parent) in ("sorted", "len")
+                    self.assertTrue(fits, f"{name}:{node.lineno}")
+
+    def test_what_a_loop_walks_is_not_changed_in_it(self):
+        for name, tree in trees().items():
+            for loop in ast.walk(tree):
+                if isinstance(loop, ast.For) and isinstance(loop.iter, ast.Name):
+                    for node in ast.walk(loop):
+                        if called(node) in CHANGES:
+                            self.assertNotEqual(ast.unparse(node.func.value), loop.iter.id, f"{name}:{node.lineno}")
 
 
 class Names(unittest.TestCase):
